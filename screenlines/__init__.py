@@ -1,0 +1,1 @@
+"""Screenlines: lines of a screen written over."""

@@ -1,0 +1,14 @@
+"""Whole numbers and plain texts, told from any other thing."""
+
+
+def is_whole(thing):
+    # Python counts truths among its ints; here they are no numbers.
+    return isinstance(thing, int) and not isinstance(thing, bool)
+
+
+def is_within(thing, low, high):
+    return is_whole(thing) and low <= thing <= high
+
+
+def is_plain(thing):
+    return isinstance(thing, str) and all([" " <= sign <= "~" for sign in thing])

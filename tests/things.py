@@ -1,0 +1,32 @@
+"""Things of all kinds, none of which is a screen or an order, nor, but for the empty list, a list of orders."""
+
+ATOMS = (
+    0, 1, -1, 2, 12, 40, 41, 10 ** 30, True, False, None,
+    "", " ", "a", "say", "go", "wipe", "a\nb", "\t", "\x1f", "\x7f", "\u00e9", "a" * 41,
+)
+
+
+def nested(thing, deep):
+    """The thing within lists and tuples, in turn, so many deep."""
+    for level in range(deep):
+        thing = [thing] if level % 2 else (thing,)
+    return thing
+
+
+def any_things():
+    things = list(ATOMS)
+    things += [nested(atom, deep) for atom in ATOMS if atom != "wipe" for deep in range(2, 6)]
+    things += [[], (), [""], ["a", ""], ["a", "b", "c", "d"], ((), ()), [[], []], (None,), [None], ([],), [()], ((((("a",),),),),), [[[[["a"]]]]]]
+    things += [(one, other) for one in ATOMS for other in (0, True, None, [], (), "\n")]
+    things += [(one, two, other) for one in ATOMS for two in (1, True, "a") for other in ([], (0, 0), None, False)]
+    things += [[one, other] for one in ATOMS for other in (0, True, None, [], ("say", ""))]
+    return things
+
+
+class Raises:
+    """Mixed into a test: asserts the very class of a refusal."""
+
+    def refuses(self, error, function, *given):
+        with self.assertRaises(error) as caught:
+            function(*given)
+        self.assertIs(type(caught.exception), error, (function.__name__, given))
