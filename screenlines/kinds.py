@@ -1,5 +1,7 @@
 """Whole numbers and plain texts, told from any other thing."""
 
+from screenlines.errors import NoText
+
 
 def is_whole(thing):
     # Python counts truths among its ints; here they are no numbers.
@@ -12,3 +14,8 @@ def is_within(thing, low, high):
 
 def is_plain(thing):
     return isinstance(thing, str) and all([" " <= sign <= "~" for sign in thing])
+
+
+def check_plain(thing):
+    if not is_plain(thing):
+        raise NoText("this is no plain text")

@@ -11,7 +11,7 @@ import re
 import unittest
 
 FOLDER = pathlib.Path(__file__).resolve().parent.parent / "screenlines"
-PARTS = ("__init__", "errors", "screens", "orders", "least")
+PARTS = ("__init__", "errors", "screens", "orders", "least", "bars", "columns", "tables", "boards")
 STATEMENTS = (
     ast.Assign, ast.AugAssign, ast.If, ast.While, ast.For, ast.Return, ast.Break, ast.Continue, ast.Pass, ast.Raise,
     ast.Try, ast.Expr, ast.FunctionDef, ast.ClassDef, ast.ImportFrom,
@@ -31,6 +31,11 @@ METHODS = set(
 WORDS_OUT = re.compile(
     r"\b(type|typing|typing_extensions|enum|Enum|IntEnum|StrEnum|Flag|IntFlag|Generic|Protocol|ABC|ABCMeta|namedtuple|"
     r"NamedTuple|TypedDict|TYPE_CHECKING|abstractmethod)\b|dataclass|overload|contextmanager")
+DOUBLE_UNDERSCORES = ("__init__", "__eq__", "__repr__", "__str__", "__len__")
+PYTHONS_OWN = {name for kind in (str, int, list, dict, set, bytes, tuple) for name in dir(kind)}
+VALUES_ALLOWED = set("count index title find get join lower upper split strip copy add".split())
+KEYWORDS = {"sorted": ("key", "reverse"), "min": ("key", "default"), "max": ("key", "default"), "sum": ("start",),
+            "enumerate": ("start",), "zip": ("strict",)}
 NAMES_OUT = set("register mro elements open input version_info with_traceback add_note".split())
 
 
@@ -142,6 +147,53 @@ class TestLanguage(unittest.TestCase):
             bound += [node.targets[0].id for node in tree.body if isinstance(node, ast.Assign)]
             bound += [alias.name for node in tree.body if isinstance(node, ast.ImportFrom) for alias in node.names]
             self.assertEqual(len(bound), len(set(bound)), f"L15 {name}")
+
+    def test_the_top_of_a_module(self):
+        for name, tree in self.trees.items():
+            for node in tree.body:
+                if isinstance(node, ast.Assign):
+                    for part in ast.walk(node.value):
+                        self.assertIsInstance(part, (ast.Constant, ast.Tuple, ast.List, ast.Dict, ast.Load), f"L3 {name}")
+                elif isinstance(node, ast.Expr):
+                    self.assertTrue(is_docstring(node, tree), f"L3 {name}:{node.lineno}")
+                else:
+                    self.assertIsInstance(node, (ast.ImportFrom, ast.FunctionDef, ast.ClassDef), f"L3 {name}:{node.lineno}")
+
+    def test_functions(self):
+        for node, tree, spot in self.each_node():
+            if isinstance(node, (ast.FunctionDef, ast.Lambda)):
+                self.assertIsNone(node.args.vararg, f"L4 {spot}")
+                self.assertIsNone(node.args.kwarg, f"L4 {spot}")
+                self.assertEqual(node.args.kwonlyargs + node.args.posonlyargs, [], f"L4 {spot}")
+            if isinstance(node, ast.FormattedValue):
+                self.assertIsInstance(node.value, ast.Name, f"L7 {spot}")
+                self.assertIsNone(node.format_spec, f"L7 {spot}")
+            if isinstance(node, ast.Call) and node.keywords and isinstance(node.func, ast.Name):
+                if hasattr(builtins, node.func.id):
+                    for keyword in node.keywords:
+                        self.assertIn(keyword.arg, KEYWORDS.get(node.func.id, ()), f"L22 {spot}")
+
+    def test_classes(self):
+        methods, values = set(), set()
+        for node, tree, spot in self.each_node():
+            if isinstance(node, ast.ClassDef):
+                self.assertIn(node, tree.body, f"L15 {spot}")
+                self.assertLessEqual(len(node.bases), 1, f"L5 {spot}")
+                own = [part.name for part in node.body if isinstance(part, ast.FunctionDef)]
+                self.assertEqual(len(own), len(set(own)), f"L18 {spot}")
+                methods |= set(own)
+                for part in node.body:
+                    self.assertIsInstance(part, (ast.FunctionDef, ast.Pass), f"L5 {spot}")
+            if isinstance(node, ast.Attribute) and isinstance(node.ctx, ast.Store):
+                self.assertIsInstance(node.value, ast.Name, f"L18 {spot}")
+                values.add(node.attr)
+        self.assertEqual(methods & values, set(), "L18")
+        for name in methods:
+            self.assertTrue(name in DOUBLE_UNDERSCORES or not name.startswith("_"), f"L5, L12 {name}")
+            free = name not in PYTHONS_OWN or name in DOUBLE_UNDERSCORES
+            self.assertTrue(free or name in METHODS | {"add", "discard"}, f"L26 {name}")
+        for name in values:
+            self.assertTrue(name not in PYTHONS_OWN or name in VALUES_ALLOWED, f"L26 {name}")
 
     def test_methods(self):
         own = {node.name for tree in self.trees.values() for part in tree.body if isinstance(part, ast.ClassDef)

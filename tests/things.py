@@ -30,3 +30,18 @@ class Raises:
         with self.assertRaises(error) as caught:
             function(*given)
         self.assertIs(type(caught.exception), error, (function.__name__, given))
+
+
+def things_but(fits):
+    """All of these things of which it is not told that they fit."""
+    return [thing for thing in any_things() if not fits(thing)]
+
+
+def whole_within(low, high):
+    """Tells whether a thing is a whole number from low to high."""
+    return lambda thing: isinstance(thing, int) and not isinstance(thing, bool) and low <= thing <= high
+
+
+def plain(thing):
+    """Tells whether a thing is a plain text."""
+    return isinstance(thing, str) and all(32 <= ord(sign) <= 126 for sign in thing)
