@@ -1,7 +1,7 @@
 """Bars that grow, clocks, and how much time is left."""
 
 from screenlines.errors import NoNumber, NoRoom, NoText
-from screenlines.kinds import is_within
+from screenlines.kinds import are_figures, is_within
 
 MOST_COUNT = 1000000000
 LEAST_BAR = 3
@@ -9,7 +9,6 @@ MOST_BAR = 40
 BAR_ENDS = 2
 MINUTE = 60
 HOUR = 3600
-FIGURES = "0123456789"
 LONGEST_CLOCK = 12
 LEAST_MANY = 2
 MOST_MANY = 99
@@ -86,10 +85,6 @@ def clock(seconds):
     hours = seconds // HOUR
     middle = two_figures(seconds % HOUR // MINUTE)
     return f"{hours}:{middle}:{end}"
-
-
-def are_figures(text):
-    return text != "" and all([sign in FIGURES for sign in text])
 
 
 def seconds_or_none(thing):

@@ -2,6 +2,8 @@
 
 from screenlines.errors import NoText
 
+FIGURES = "0123456789"
+
 
 def is_whole(thing):
     # Python counts truths among its ints; here they are no numbers.
@@ -19,3 +21,7 @@ def is_plain(thing):
 def check_plain(thing):
     if not is_plain(thing):
         raise NoText("this is no plain text")
+
+
+def are_figures(text):
+    return text != "" and all([sign in FIGURES for sign in text])

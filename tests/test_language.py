@@ -11,7 +11,8 @@ import re
 import unittest
 
 FOLDER = pathlib.Path(__file__).resolve().parent.parent / "screenlines"
-PARTS = ("__init__", "errors", "screens", "orders", "least", "bars", "columns", "tables", "boards")
+PARTS = ("__init__", "errors", "screens", "orders", "least", "bars", "columns", "tables", "boards", "texts", "windows",
+         "spans", "pads")
 STATEMENTS = (
     ast.Assign, ast.AugAssign, ast.If, ast.While, ast.For, ast.Return, ast.Break, ast.Continue, ast.Pass, ast.Raise,
     ast.Try, ast.Expr, ast.FunctionDef, ast.ClassDef, ast.ImportFrom,

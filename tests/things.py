@@ -45,3 +45,24 @@ def whole_within(low, high):
 def plain(thing):
     """Tells whether a thing is a plain text."""
     return isinstance(thing, str) and all(32 <= ord(sign) <= 126 for sign in thing)
+
+
+def changed_texts(text, signs):
+    """The text with one sign put in, taken out or exchanged, and with a line left out or told twice."""
+    changed = []
+    for spot in range(len(text) + 1):
+        changed += [text[:spot] + sign + text[spot:] for sign in signs]
+        if spot < len(text):
+            changed.append(text[:spot] + text[spot + 1:])
+            changed += [text[:spot] + sign + text[spot + 1:] for sign in signs]
+    lines = text.splitlines(keepends=True)
+    for number, line in enumerate(lines):
+        changed.append("".join(lines[:number] + lines[number + 1:]))
+        changed.append("".join(lines[:number] + [line] + lines[number:]))
+    return changed
+
+
+def some_screen(chance, width, many, signs):
+    """A screen of this size, its signs and its place by chance."""
+    rows = tuple("".join(chance.choice(signs) for column in range(width)) for row in range(many))
+    return width, rows, (chance.randint(0, many - 1), chance.randint(0, width))
